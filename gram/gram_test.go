@@ -57,7 +57,7 @@ func row() (fields []api.Field, values []api.Value, encoding []byte, begins []in
 	return fields, values, encoding, []int{0, 2, 6, 14, 22, 23, 25, 29, 32}
 }
 
-// wrongFields are fields that are not valid, each by one thing alone.
+// wrongFields are fields that are not valid, by each of the things that P2.1 asks for.
 func wrongFields() map[string]api.Field {
 	return map[string]api.Field{
 		"zero field": {}, "kind below zero": {Kind: -1, Hi: 1}, "kind beyond": {Kind: 4, Hi: 1}, "kind zero": {Size: 1, Hi: 1},
