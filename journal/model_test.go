@@ -280,8 +280,10 @@ func TestEveryRun(t *testing.T) {
 	c := config(2, 3, 3, 2)
 	for run := range acts * acts * acts {
 		r, m := made(t, c, 0), newModel(c)
-		for step, rest := 1, run; rest > 0; step, rest = step+1, rest/acts {
-			act(t, r, m, rest%acts, step)
+		rest := run
+		for step := range 3 {
+			act(t, r, m, rest%acts, step+1)
+			rest /= acts
 		}
 		if !m.like(t, "a run", r) {
 			t.Fatalf("run %d", run)
