@@ -1343,8 +1343,10 @@ func small(t *testing.T) (*rack.Rack, *model) {
 func TestEveryRun(t *testing.T) {
 	for run := range acts * acts * acts * acts {
 		r, m := small(t)
-		for rest := run; rest > 0; rest /= acts {
+		rest := run
+		for range 4 {
 			act(t, r, m, rest%acts)
+			rest /= acts
 		}
 		if !m.like(t, "a run", r) {
 			t.Fatalf("run %d", run)
